@@ -1,0 +1,1 @@
+"""Clerks: cards in trays, taken, put, lent, lost and found."""

@@ -1,0 +1,70 @@
+"""The questions, calls 8 to 11: they change nothing."""
+
+from cardclerks.state import OUT_OF_RANGE
+from cardclerks.state import is_card_number
+from cardclerks.state import is_key
+
+IN_TRAY = 0
+IN_HAND = 1
+LENT = 2
+LOST = 3
+NO_CARD = 4
+
+
+def counted(row):
+    return [len(row)] + row
+
+
+def spot_in(rows, n):
+    for number, row in enumerate(rows):
+        if n in row:
+            return [number, row.index(n)]
+    return []
+
+
+def where_is(room, n):
+    if not is_card_number(n):
+        return [OUT_OF_RANGE]
+    if n not in room.cards:
+        return [NO_CARD]
+    if n in room.lost:
+        return [LOST, 0, 0]
+    if n in room.lent:
+        return [LENT, room.lent[n], 0]
+    in_hand = spot_in(room.hands, n)
+    if len(in_hand) > 0:
+        return [IN_HAND] + in_hand
+    return [IN_TRAY] + spot_in(room.trays, n)
+
+
+def show_tray(room, t):
+    if not room.has_tray(t):
+        return [OUT_OF_RANGE]
+    return counted(room.trays[t])
+
+
+def show_hand(room, c):
+    if not room.has_clerk(c):
+        return [OUT_OF_RANGE]
+    return counted(room.hands[c])
+
+
+def ask_tray(room, t, lo, hi):
+    if not (room.has_tray(t) and is_key(lo) and is_key(hi)):
+        return [OUT_OF_RANGE]
+    row = room.trays[t]
+    asked = [n for n in room.cards if lo <= room.key_of(n) <= hi]
+    there = [n for n in row if n in asked]
+    away = [n for n in asked if room.home_of(n) == t and n not in row]
+    return counted(there) + counted(away)
+
+
+def answer_question(room, call):
+    number = call[0]
+    if number == 8:
+        return where_is(room, call[1])
+    if number == 9:
+        return show_tray(room, call[1])
+    if number == 10:
+        return show_hand(room, call[1])
+    return ask_tray(room, call[1], call[2], call[3])
