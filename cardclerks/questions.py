@@ -1,5 +1,8 @@
-"""The questions, calls 8 to 11: they change nothing."""
+"""The questions of cards, calls 8 to 11, 16, 17, 21 and 22: they change nothing."""
 
+from cardclerks.rows import counted
+from cardclerks.rows import counted_rows
+from cardclerks.rows import spot_in
 from cardclerks.state import OUT_OF_RANGE
 from cardclerks.state import is_card_number
 from cardclerks.state import is_key
@@ -10,16 +13,7 @@ LENT = 2
 LOST = 3
 NO_CARD = 4
 
-
-def counted(row):
-    return [len(row)] + row
-
-
-def spot_in(rows, n):
-    for number, row in enumerate(rows):
-        if n in row:
-            return [number, row.index(n)]
-    return []
+MOST_SEEN = 40
 
 
 def where_is(room, n):
@@ -59,6 +53,41 @@ def ask_tray(room, t, lo, hi):
     return counted(there) + counted(away)
 
 
+def tell_doubles(room):
+    told = list(room.cards)
+    pairs = []
+    for at, earlier in enumerate(told):
+        for later in told[at + 1:]:
+            if room.cards[earlier] == room.cards[later]:
+                pairs.append((earlier, later))
+    return counted_rows(pairs)
+
+
+def is_seen_list(seen):
+    if len(seen) > MOST_SEEN or len(set(seen)) < len(seen):
+        return False
+    return all([is_card_number(n) for n in seen])
+
+
+def take_inventory(room, t, seen):
+    if not (room.has_tray(t) and is_seen_list(seen)):
+        return [OUT_OF_RANGE]
+    row = room.trays[t]
+    unseen = [n for n in row if n not in seen]
+    not_there = [n for n in seen if n not in row]
+    return counted(unseen) + counted(not_there)
+
+
+def tell_counts(room):
+    lying = sum([len(row) for row in room.trays])
+    return [len(room.trays), len(room.hands), len(room.cards), lying,
+            len(room.lent), len(room.lost), len(room.journal)]
+
+
+def tell_missing(room):
+    return counted([n for n in room.cards if len(spot_in(room.trays, n)) == 0])
+
+
 def answer_question(room, call):
     number = call[0]
     if number == 8:
@@ -67,4 +96,12 @@ def answer_question(room, call):
         return show_tray(room, call[1])
     if number == 10:
         return show_hand(room, call[1])
-    return ask_tray(room, call[1], call[2], call[3])
+    if number == 11:
+        return ask_tray(room, call[1], call[2], call[3])
+    if number == 16:
+        return tell_doubles(room)
+    if number == 17:
+        return take_inventory(room, call[1], call[3:])
+    if number == 21:
+        return tell_counts(room)
+    return tell_missing(room)

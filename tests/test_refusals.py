@@ -1,8 +1,9 @@
 import unittest
 
-from tests.lines import (GREATEST, LEAST, ask, back, card, cards, find, hand,
-                         last, lend, lose, lose_and_find, put, room, run, take,
-                         tray, where)
+from tests.lines import (GREATEST, LEAST, ask, back, card, cards, everything,
+                         exchange, find, hand, inventory, last, lend, lose,
+                         lose_and_find, put, room, run, staying, take, tray,
+                         undo, where)
 
 # Two trays, two clerks: 0 to 3 lie in tray 0, 4 in tray 1, 5 is in clerk 0's
 # hand, 6 is lent, 7 is lost, and clerk 1's hand has 10, 11 and 12.
@@ -26,15 +27,23 @@ RANGES = [
     (tray(0), [(0, 1)]),
     (hand(0), [(0, 1)]),
     (ask(0, 0, 0), [(0, 1), (-1000, 1000), (-1000, 1000)]),
+    (staying(0), [(0, 1)]),
+    (inventory(0, []), [(0, 1)]),
+    (exchange(0), [(0, 16)]),
 ]
 
-ALL_SEEN = ([tray(t) for t in range(4)] + [hand(c) for c in range(3)]
-            + [where(n) for n in range(60)] + [where(999)]
-            + [ask(t, -1000, 1000) for t in range(4)])
+ALL_SEEN = everything(18)
 
 
 def with_argument(call, k, number):
     return call[:k + 1] + (number,) + call[k + 2:]
+
+
+def all_arguments(call, ranges, number):
+    """Each argument that has a range; of inventory the list stays as it is."""
+    for k in range(len(ranges)):
+        call = with_argument(call, k, number)
+    return call
 
 
 def full_journal():
@@ -75,16 +84,19 @@ class Ranges(unittest.TestCase):
                 made = [room(trays, clerks), card(1, 0, 0), card(2, 0, 0), lose(2)]
                 beyond = [card(5, trays, 0), take(0, trays, 0), take(clerks, 0, 0), put(0, 0, trays, 0),
                           put(clerks, 0, 0, 0), lend(clerks, 0, 0), back(clerks, 1), find(2, trays),
-                          tray(trays), hand(clerks), ask(trays, 0, 0)]
+                          tray(trays), hand(clerks), ask(trays, 0, 0), staying(trays), inventory(trays, [])]
                 self.assertEqual(run(made + beyond)[4:], [[-1]] * len(beyond))
                 within = [card(5, trays - 1, 0), find(2, trays - 1), take(clerks - 1, trays - 1, 0),
-                          put(clerks - 1, 0, trays - 1, 0), ask(trays - 1, 5, 5)]
-                self.assertEqual(run(made + within)[4:], [[3], [4], [5], [6], [0, 0]])
+                          put(clerks - 1, 0, trays - 1, 0), ask(trays - 1, 5, 5),
+                          inventory(trays - 1, [1, 5, 2]), staying(trays - 1)]
+                self.assertEqual(run(made + within)[4:],
+                                 [[3], [4], [5], [6], [0, 0]]
+                                 + ([[0, 0], [3, 1, 5, 2]] if trays == 1 else [[0, 1, 1], [1, 5]]))
 
     def test_all_arguments_wrong_at_once(self):
         for call, ranges in RANGES:
             for number in (LEAST, GREATEST):
-                self.assertEqual(last(READY + [(call[0],) + (number,) * len(ranges)]), [-1])
+                self.assertEqual(last(READY + [all_arguments(call, ranges, number)]), [-1])
 
 
 class Order(unittest.TestCase):
@@ -144,8 +156,9 @@ class Journal(unittest.TestCase):
 
 class RefusalsChangeNothing(unittest.TestCase):
     def same_behind(self, before, refused, refusal):
-        given = run(before + [refused] + ALL_SEEN + [lose(1), find(1, 0)])
-        plain = run(before + ALL_SEEN + [lose(1), find(1, 0)])
+        behind = ALL_SEEN + [lose(1), find(1, 0), undo(), undo()] + ALL_SEEN
+        given = run(before + [refused] + behind)
+        plain = run(before + behind)
         at = len(before)
         self.assertEqual(given[at], [refusal], refused)
         self.assertEqual(given[:at] + given[at + 1:], plain, refused)
